@@ -1,0 +1,1 @@
+"""Toldparts: numbers as rows of told parts in order."""

@@ -1,0 +1,1 @@
+"""How many rows there are."""
