@@ -2,6 +2,7 @@
 
 import ast
 import builtins
+import importlib
 import re
 import unittest
 from pathlib import Path
@@ -16,6 +17,10 @@ BUILTINS = set(
 BARRED_WORDS = re.compile(
     r"\b(type|typing|typing_extensions|enum|Enum|IntEnum|StrEnum|Flag|IntFlag|Generic|Protocol|ABC|ABCMeta"
     r"|namedtuple|NamedTuple|TypedDict|TYPE_CHECKING|abstractmethod)\b|dataclass|overload|contextmanager"
+)
+# Names of these mean something to readers of Python already.
+KNOWN_MODULES = (
+    "bisect collections copy fractions functools heapq itertools math operator random re statistics string".split()
 )
 BARRED_NODES = (ast.Global, ast.AsyncFunctionDef, ast.AsyncFor, ast.AsyncWith, ast.Await, ast.Div, ast.Import)
 
@@ -83,6 +88,14 @@ class Language(unittest.TestCase):
                     self.assertNotIn(node.id, known, where)
             if isinstance(node, ast.arg):
                 self.assertNotIn(node.arg, known, where)
+
+    def test_names_at_module_level_mean_nothing_else(self):
+        known = {name for module in KNOWN_MODULES for name in dir(importlib.import_module(module))}
+        for file in package_files():
+            for node in ast.parse(file.read_text()).body:
+                names = [getattr(node, "name", None)]
+                names += [target.id for target in getattr(node, "targets", [])]
+                self.assertFalse(known & set(names), (file, names))
 
 
 if __name__ == "__main__":

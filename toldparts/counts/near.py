@@ -15,7 +15,7 @@ def count_rows(parts, number):
     return counts_to(parts, number)[number]
 
 
-def product(left, right, divisor):
+def multiplied(left, right, divisor):
     """Two polynomials multiplied, as lists of factors from the power 0 on, by a divisor."""
     factors = [0] * (len(left) + len(right) - 1)
     for power, one in enumerate(left):
@@ -41,8 +41,8 @@ def far_count(parts, number, divisor):
     # that are odd or even as the number is tell it alone, and the number halves.
     while number > 0:
         turned = odd_turned(below)
-        above = product(above, turned, divisor)[number & 1::2]
-        below = product(below, turned, divisor)[::2]
+        above = multiplied(above, turned, divisor)[number & 1::2]
+        below = multiplied(below, turned, divisor)[::2]
         number >>= 1
     # The factor of x to the power 0 in below stays 1 all along.
     return above[0] % divisor
