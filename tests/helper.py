@@ -1,6 +1,70 @@
 """Slow and plain ways to what the program tells, to hold it against."""
 
+import inspect
+import unittest
 from itertools import combinations
+
+from toldparts.errors import NoRow
+
+# Parts as great and as many as there are, and few.
+MANY_PARTS = (
+    tuple(range(1, 13)),
+    tuple(range(29, 41)),
+    (1, 2, 3, 5, 8, 13, 21, 34, 37, 38, 39, 40),
+    (2, 4, 6, 8, 10, 12, 20, 24, 30, 34, 38, 40),
+    (3, 6, 9, 40),
+    (7, 11),
+    (1, 40),
+    (40,),
+    (1,),
+)
+
+
+# Parts, a row that is none of them, and the first place that is no part.
+WRONG_ROWS = (
+    ((1, 2), (0,), 0),
+    ((1, 2), (-1,), 0),
+    ((1, 2), (3,), 0),
+    ((1, 2), (10 ** 100,), 0),
+    ((2, 5), (1, 2, 5), 0),
+    ((2, 5), (2, 0, 5), 1),
+    ((2, 5), (2, -2, 5), 1),
+    ((2, 5), (2, -10 ** 100, 5), 1),
+    ((2, 5), (2, 10 ** 100, 5), 1),
+    ((2, 5), (2, 5, 0), 2),
+    ((2, 5), (2, 5, -5), 2),
+    ((2, 5), (2, 5, 3), 2),
+    ((2, 5), (2, 5, 7), 2),
+    ((2, 5), (2, 3, 5, 4, 0), 1),
+    ((40,), (40,) * 299 + (39,), 299),
+    ((40,), (40,) * 299 + (41,), 299),
+    ((1, 40), (40,) * 150 + (0,) + (40,) * 149, 150),
+    ((1, 40), (2,) + (40,) * 299, 0),
+)
+
+
+class Held(unittest.TestCase):
+    """What the tests of several modules ask for."""
+
+    def arguments_are(self, module, wanted):
+        for name, arguments in wanted.items():
+            told = inspect.signature(getattr(module, name)).parameters
+            self.assertEqual(list(told), arguments.split(), name)
+
+    def is_plain(self, told):
+        """Tuples of tuples and whole numbers alone, which are no truths."""
+        if type(told) is tuple:
+            for thing in told:
+                self.is_plain(thing)
+        else:
+            self.assertIs(type(told), int)
+
+    def row_refused(self, asked, parts, row, place):
+        with self.assertRaises(NoRow) as held:
+            asked(parts, row)
+        self.assertIs(type(held.exception), NoRow)
+        self.assertEqual(held.exception.place, place, (parts, row))
+        self.assertIs(type(held.exception.place), int)
 
 
 def all_rows(parts, number):
@@ -20,19 +84,30 @@ def all_parts(greatest):
     return [parts for many in numbers for parts in combinations(numbers, many)]
 
 
-def counts_by_many_parts(parts, number):
-    """How many rows come to each number to the told one, added up by how many parts they have."""
-    totals = [0] * (number + 1)
+def turns(row):
+    """A row begun at each of its places."""
+    return [row[at:] + row[:at] for at in range(len(row))]
+
+
+def powers_of_parts(parts, number):
+    """For each number of parts from 0 on, a dict of how many rows come to each number to the told one."""
+    powers = []
     having = {0: 1}
     while having:
+        powers.append(having)
         longer = {}
         for reached, count in having.items():
-            totals[reached] += count
             for part in parts:
                 if reached + part <= number:
                     longer[reached + part] = longer.get(reached + part, 0) + count
         having = longer
-    return tuple(totals)
+    return powers
+
+
+def counts_by_many_parts(parts, number):
+    """How many rows come to each number to the told one, added up by how many parts they have."""
+    powers = powers_of_parts(parts, number)
+    return tuple(sum(having.get(reached, 0) for having in powers) for reached in range(number + 1))
 
 
 def rests_one_by_one(parts, number, divisor):

@@ -1,23 +1,14 @@
 import inspect
 import unittest
 
-from tests.helper import all_parts, all_rows, counts_by_many_parts, rest_by_matrix, rests_one_by_one
+from tests.helper import (
+    MANY_PARTS, all_parts, all_rows, counts_by_many_parts, rest_by_matrix, rests_one_by_one,
+)
 from toldparts.counts import near
 from toldparts.counts.near import count_rows, counts_to, far_count
 
 GREAT = 10 ** 18
 DIVISORS = (1, 2, 3, 4, 7, 12, 1000, 2 ** 29, 998244353, 10 ** 9 - 1, 10 ** 9)
-MANY_PARTS = (
-    tuple(range(1, 13)),
-    tuple(range(29, 41)),
-    (1, 2, 3, 5, 8, 13, 21, 34, 37, 38, 39, 40),
-    (2, 4, 6, 8, 10, 12, 20, 24, 30, 34, 38, 40),
-    (3, 6, 9, 40),
-    (7, 11),
-    (1, 40),
-    (40,),
-    (1,),
-)
 
 
 class Interface(unittest.TestCase):

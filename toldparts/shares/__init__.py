@@ -1,0 +1,1 @@
+"""What rows have on average."""
