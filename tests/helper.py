@@ -78,6 +78,11 @@ def all_rows(parts, number):
     return rows
 
 
+def pair(fraction):
+    """A Fraction as the program tells it."""
+    return fraction.numerator, fraction.denominator
+
+
 def all_parts(greatest):
     """All parts of numbers from 1 to the greatest."""
     numbers = range(1, greatest + 1)

@@ -3,16 +3,12 @@ from collections import Counter
 from fractions import Fraction
 from math import gcd
 
-from tests.helper import MANY_PARTS, Held, all_parts, all_rows, counts_by_many_parts, powers_of_parts
+from tests.helper import MANY_PARTS, Held, all_parts, all_rows, counts_by_many_parts, pair, powers_of_parts
 from toldparts.divisors import common_divisor, least_fraction
 from toldparts.shares import averages as module
 from toldparts.shares.averages import averages, likeliest_many
 
 SMALL = all_parts(5) + [(2, 9), (3, 10), (6, 10, 11), (1, 40)]
-
-
-def pair(fraction):
-    return fraction.numerator, fraction.denominator
 
 
 class Interface(Held):

@@ -29,6 +29,24 @@ def package_files():
     return sorted(PACKAGE.rglob("*.py"))
 
 
+def module_of(file):
+    """The full name of a file's module."""
+    return ".".join(file.relative_to(PACKAGE.parent).with_suffix("").parts).removesuffix(".__init__")
+
+
+def bound_at_module_level(tree):
+    """The names that a module binds, those of its imports apart from its own."""
+    imported, own = [], []
+    for node in tree.body:
+        if isinstance(node, ast.ImportFrom):
+            imported += [name.asname or name.name for name in node.names]
+        elif isinstance(node, (ast.FunctionDef, ast.ClassDef)):
+            own.append(node.name)
+        elif isinstance(node, ast.Assign):
+            own += [target.id for target in node.targets]
+    return imported, own
+
+
 class Language(unittest.TestCase):
     def each_node(self):
         for file in package_files():
@@ -96,6 +114,57 @@ class Language(unittest.TestCase):
                 names = [getattr(node, "name", None)]
                 names += [target.id for target in getattr(node, "targets", [])]
                 self.assertFalse(known & set(names), (file, names))
+
+    def test_names_are_bound_once_at_module_level(self):
+        for file in package_files():
+            imported, own = bound_at_module_level(ast.parse(file.read_text()))
+            self.assertEqual(len(imported + own), len(set(imported + own)), file)
+
+    def test_imports_name_the_file_that_defines(self):
+        trees = {module_of(file): ast.parse(file.read_text()) for file in package_files()}
+        for module, tree in trees.items():
+            for node in ast.walk(tree):
+                if isinstance(node, ast.ImportFrom):
+                    own = bound_at_module_level(trees[node.module])[1]
+                    for name in node.names:
+                        self.assertIn(name.name, own, module)
+
+    def test_no_two_files_import_from_each_other(self):
+        waiting = {}
+        for file in package_files():
+            nodes = ast.walk(ast.parse(file.read_text()))
+            waiting[module_of(file)] = {node.module for node in nodes if isinstance(node, ast.ImportFrom)}
+        while waiting:
+            free = [module for module in waiting if not waiting[module] & set(waiting)]
+            self.assertTrue(free, waiting)
+            for module in free:
+                del waiting[module]
+
+    def test_no_variable_has_the_name_of_a_class_or_an_import(self):
+        for file in package_files():
+            tree = ast.parse(file.read_text())
+            taken = set(bound_at_module_level(tree)[0])
+            taken |= {node.name for node in tree.body if isinstance(node, ast.ClassDef)}
+            for node in ast.walk(tree):
+                if isinstance(node, ast.Name) and isinstance(node.ctx, ast.Store):
+                    self.assertNotIn(node.id, taken, file)
+                if isinstance(node, ast.arg):
+                    self.assertNotIn(node.arg, taken, file)
+
+    def test_exponents_are_written_out(self):
+        for where, node in self.each_node():
+            if isinstance(node, ast.BinOp) and isinstance(node.op, ast.Pow):
+                self.assertIsInstance(node.right, ast.Constant, where)
+                self.assertIn(node.right.value, range(65), where)
+
+    def test_no_name_is_a_method_and_an_attribute(self):
+        methods, attributes = set(), set()
+        for where, node in self.each_node():
+            if isinstance(node, ast.ClassDef):
+                methods |= {inner.name for inner in node.body if isinstance(inner, ast.FunctionDef)}
+            if isinstance(node, ast.Attribute) and isinstance(node.ctx, ast.Store):
+                attributes.add(node.attr)
+        self.assertFalse(methods & attributes)
 
 
 if __name__ == "__main__":

@@ -1,1 +1,1 @@
-"""What rows have on average."""
+"""What rows have on average, and how likely they are."""
